@@ -1,0 +1,132 @@
+// Package flow: what may be where, on whatever way a program comes to a line.
+package flow
+
+import (
+	"stow/api"
+	"stow/prog"
+)
+
+// May is how a thing may be: a bit for each.
+type May uint8
+
+const (
+	Gone    May = 1 << iota // an int, a box or a half is not there; an opt is away
+	There                   // an int, a box or a half is there; an opt is whole
+	Nothing                 // an opt is nothing
+	Hollow                  // an opt's content was moved out or dropped
+)
+
+// State is what may be where at one moment: two entries a local, of which only a pair has use for the second. One that was never come to has no bits at all.
+//
+// Each thing is followed by itself. Nothing is lost by that, as what a line makes of a thing hangs on one thing alone.
+type State [2 * api.MaxLocals]May
+
+// start is the state ahead of block 0.
+func start() State {
+	var s State
+	for i := range s {
+		s[i] = Gone
+	}
+	return s
+}
+
+// slot is where a state has a place; a content is how its opt is.
+func slot(place prog.Place) int {
+	if place.Part == prog.HalfB {
+		return 2*place.Local + 1
+	}
+	return 2 * place.Local
+}
+
+// take makes what was in the places be gone from there.
+func (s *State) take(places ...prog.Place) {
+	for _, place := range places {
+		if place.Part == prog.Content {
+			s[slot(place)] = Hollow
+		} else {
+			s[slot(place)] = Gone
+		}
+	}
+}
+
+// put makes places be as may says.
+func (s *State) put(may May, places ...prog.Place) {
+	for _, place := range places {
+		s[slot(place)] = may
+	}
+}
+
+// pass makes of the state ahead of a line the one behind it, as if what the line needs were there.
+func (s *State) pass(p *prog.Program, line prog.Line) {
+	w := line.Places
+	switch line.Op {
+	case prog.Set, prog.Add, prog.Sub, prog.Mul, prog.Div, prog.In, prog.Load, prog.New:
+		s.put(There, w[0])
+	case prog.Move:
+		s.move(p, w[0], w[1])
+	case prog.None:
+		s.put(Nothing, w[0])
+	case prog.Some:
+		s.take(w[1])
+		s.put(There, w[0])
+	case prog.Drop:
+		s.take(p.Halves(w[0])...)
+	}
+}
+
+// move takes ahead of writing: both may be the same.
+func (s *State) move(p *prog.Program, to, from prog.Place) {
+	written := There
+	if kind, _ := p.Kind(from); kind == prog.Opt {
+		written = s[slot(from)]
+	}
+	s.take(p.Halves(from)...)
+	s.put(written, p.Halves(to)...)
+}
+
+// lacks tells whether any of the places may be otherwise than fit says.
+func (s *State) lacks(fit May, places ...prog.Place) bool {
+	for _, place := range places {
+		if s[slot(place)]&^fit != 0 {
+			return true
+		}
+	}
+	return false
+}
+
+// faulty tells whether a line needs what may not be there.
+func (s *State) faulty(p *prog.Program, line prog.Line) bool {
+	w := line.Places
+	switch line.Op {
+	case prog.Add, prog.Sub, prog.Mul, prog.Div:
+		return s.lacks(There, w[1], w[2])
+	case prog.Out, prog.If, prog.End:
+		return s.lacks(There, w[0])
+	case prog.New:
+		return s.lacks(There, w[1]) || s.shut(w[0])
+	case prog.Load, prog.Some:
+		return s.lacks(There, w[1])
+	case prog.Store:
+		return s.lacks(There, w[0], w[1])
+	case prog.Move:
+		return s.stuck(p, w[1]) || s.shut(w[0])
+	case prog.Drop:
+		return s.shut(w[0])
+	case prog.Match:
+		return s.lacks(There|Nothing, w[0])
+	}
+	return false
+}
+
+// stuck tells whether a thing may be such that it cannot be moved.
+func (s *State) stuck(p *prog.Program, place prog.Place) bool {
+	if kind, _ := p.Kind(place); kind == prog.Opt {
+		return s.lacks(There|Nothing, place)
+	}
+	return s.lacks(There, p.Halves(place)...)
+}
+
+// shut tells whether a place is a content that can be neither written over nor dropped.
+func (s *State) shut(place prog.Place) bool {
+	return place.Part == prog.Content && s.lacks(There|Hollow, place)
+}

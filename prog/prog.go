@@ -1,0 +1,100 @@
+// Package prog: programs as they are worked with, and how they are read from a text.
+package prog
+
+// Type is what a local holds.
+type Type int
+
+const (
+	Int Type = iota
+	Box
+	Pair
+	Opt
+)
+
+// Local is a name with its type.
+type Local struct {
+	Name string
+	Type Type
+}
+
+// Part is what of a local is meant.
+type Part int
+
+const (
+	Self    Part = iota // the local as it is
+	HalfA               // .a of a pair
+	HalfB               // .b of a pair
+	Content             // .s of an opt
+)
+
+// Place is a local, by its number, or a part of it.
+type Place struct {
+	Local int
+	Part  Part
+}
+
+// Op is what a line does.
+type Op int
+
+const (
+	Let Op = iota
+	Begin
+	Set
+	Add
+	Sub
+	Mul
+	Div
+	In
+	Out
+	New
+	Load
+	Store
+	Move
+	None
+	Some
+	Drop
+	Goto // from here on terminators
+	If
+	Match
+	End
+)
+
+func (op Op) isTerminator() bool { return op >= Goto }
+
+// Line is a statement or a terminator. Places and Next are in the order of its words.
+type Line struct {
+	At     int // the number of the line in the text
+	Op     Op
+	Places []Place
+	Number int64
+	Next   []int // numbers of blocks
+}
+
+// Block is statements, and the terminator behind them.
+type Block []Line
+
+// Program is one whose form, names and types are right.
+type Program struct {
+	Locals []Local
+	Blocks []Block
+}
+
+// Kind tells of which type a place is; ok is false, if its local has no such part.
+func (p *Program) Kind(place Place) (kind Type, ok bool) {
+	whole := p.Locals[place.Local].Type
+	switch place.Part {
+	case HalfA, HalfB:
+		return Box, whole == Pair
+	case Content:
+		return Box, whole == Opt
+	}
+	return whole, true
+}
+
+// Halves gives a place back, or both halves in its stead, if it is a whole pair: a pair is there, and is moved, half by half.
+func (p *Program) Halves(place Place) []Place {
+	if place.Part == Self && p.Locals[place.Local].Type == Pair {
+		return []Place{{place.Local, HalfA}, {place.Local, HalfB}}
+	}
+	return []Place{place}
+}

@@ -1,0 +1,97 @@
+package prog
+
+import (
+	"reflect"
+	"slices"
+	"strings"
+	"testing"
+
+	"stow/api"
+)
+
+func TestReadMakesAProgram(t *testing.T) {
+	p, e, at := Read("let n int\nlet x pair\nlet o opt\nblock\nset n -7\nmove x.b o.s\nif n 1 0\nblock\nend n")
+	want := &Program{
+		Locals: []Local{{"n", Int}, {"x", Pair}, {"o", Opt}},
+		Blocks: []Block{
+			{
+				{At: 4, Op: Set, Places: []Place{{0, Self}}, Number: -7},
+				{At: 5, Op: Move, Places: []Place{{1, HalfB}, {2, Content}}},
+				{At: 6, Op: If, Places: []Place{{0, Self}}, Next: []int{1, 0}},
+			},
+			{{At: 8, Op: End, Places: []Place{{0, Self}}}},
+		},
+	}
+	if e != api.OK || at != 0 || !reflect.DeepEqual(p, want) {
+		t.Errorf("Read = %+v, %d, %d, want %+v", p, e, at, want)
+	}
+}
+
+func TestReadGivesNothingWithAnError(t *testing.T) {
+	for _, c := range []struct {
+		text string
+		e    api.Errno
+		at   int
+	}{
+		{strings.Repeat("\n", api.MaxLines), api.ErrLong, 0},
+		{"let n int", api.ErrForm, 1},
+		{"let n int\nblock\nend m", api.ErrName, 2},
+		{"let n box\nblock\nend n", api.ErrType, 2},
+	} {
+		if p, e, at := Read(c.text); p != nil || e != c.e || at != c.at {
+			t.Errorf("Read(%.20q) = %v, %d, %d, want nil, %d, %d", c.text, p, e, at, c.e, c.at)
+		}
+	}
+}
+
+// TestShapes: each op has a word of its own, no line has more words than are looked for, and places stand first: fits leans on that.
+func TestShapes(t *testing.T) {
+	for op, shape := range shapes {
+		if found, ok := opOf(shape.word); !ok || found != Op(op) {
+			t.Errorf("opOf(%q) = %d, %t, want %d", shape.word, found, ok, op)
+		}
+		if 1+len(shape.wants) > mostWords {
+			t.Errorf("%q has more than %d words", shape.word, mostWords)
+		}
+		if rest := strings.TrimLeft(shape.wants, "dtiopm"); strings.ContainsAny(rest, "dtiopm") {
+			t.Errorf("%q has a place behind a number: %q", shape.word, shape.wants)
+		}
+	}
+}
+
+func TestNumbers(t *testing.T) {
+	for word, want := range map[string]int64{"0": 0, "7": 7, "-7": -7, "1000000000": api.MaxNumber, "-1000000000": -api.MaxNumber} {
+		if n, ok := numberOf(word); !ok || n != want {
+			t.Errorf("numberOf(%q) = %d, %t, want %d", word, n, ok, want)
+		}
+	}
+	for _, word := range []string{"", "-", "-0", "--1", "-+1", "+1", "01", "1000000001", "9999999999999999999999"} {
+		if n, ok := numberOf(word); ok {
+			t.Errorf("numberOf(%q) = %d, want none", word, n)
+		}
+	}
+	if n, ok := blockOf("-1"); ok {
+		t.Errorf("blockOf(-1) = %d, want none", n)
+	}
+}
+
+func TestKindsAndHalves(t *testing.T) {
+	p := &Program{Locals: []Local{{"n", Int}, {"p", Box}, {"x", Pair}, {"o", Opt}}}
+	for local, parts := range [][]Part{{Self}, {Self}, {Self, HalfA, HalfB}, {Self, Content}} {
+		for _, part := range []Part{Self, HalfA, HalfB, Content} {
+			kind, ok := p.Kind(Place{local, part})
+			has := slices.Contains(parts, part)
+			if ok != has || ok && part != Self && kind != Box || part == Self && kind != p.Locals[local].Type {
+				t.Errorf("Kind of part %d of local %d = %d, %t", part, local, kind, ok)
+			}
+		}
+	}
+	if got := p.Halves(Place{2, Self}); !reflect.DeepEqual(got, []Place{{2, HalfA}, {2, HalfB}}) {
+		t.Errorf("Halves of a pair = %v", got)
+	}
+	for _, place := range []Place{{1, Self}, {2, HalfB}, {3, Self}, {3, Content}} {
+		if got := p.Halves(place); !reflect.DeepEqual(got, []Place{place}) {
+			t.Errorf("Halves of %v = %v", place, got)
+		}
+	}
+}

@@ -1,0 +1,89 @@
+package stow_test
+
+import (
+	"fmt"
+	"math"
+	"slices"
+	"strings"
+	"sync"
+	"testing"
+
+	"stow/api"
+	"stow/stow"
+)
+
+// odd: texts of all kinds, among them such as are no texts.
+func odd() []string {
+	small := "let n int\nblock\nin n\nend n"
+	texts := []string{
+		"", " ", "\n", "\n\n", "\x00", "\xff\xfe", "é", "\r\n", "let", "block", "end", small, small + "\n", "\n" + small, strings.ReplaceAll(small, "\n", "\r\n"), strings.ReplaceAll(small, " ", "\t"),
+		strings.Repeat("let n int\n", 200), strings.Repeat(" ", 1<<20), strings.Repeat("\n", 1<<20), strings.Repeat("a", 1<<20), "let n int\nblock\nset n " + strings.Repeat("9", 1<<20), "let n int\nblock\nout " + strings.Repeat("n ", 1<<20), "let n int\nblock\nout n" + strings.Repeat(".a", 1<<20),
+	}
+	for i := range small {
+		texts = append(texts, small[:i], small[i:], small[:i]+small[i+1:], small[:i]+"\xc3"+small[i+1:])
+	}
+	return texts
+}
+
+// TestP1EndsAndDoesNotPanic: every call comes back, and an error's place is a line or the end.
+func TestP1EndsAndDoesNotPanic(t *testing.T) {
+	lists := [][]int64{nil, {}, {math.MinInt64, -1, 0, math.MaxInt64}, make([]int64, 101)}
+	numbers := []int{math.MinInt, -1, 0, 1, 50, 51, 1000, 200001, math.MaxInt}
+	for i, text := range odd() {
+		e, at := stow.Check(text)
+		if lines := 1 + strings.Count(text, "\n"); e < api.OK || e > api.ErrUse || at < 0 || at > lines {
+			t.Errorf("P1: Check(%.50q) = %d, %d", text, e, at)
+		}
+		if (e == api.OK || e == api.ErrLong) && at != 0 {
+			t.Errorf("P1: Check(%.50q) = %d, %d, want the place 0", text, e, at)
+		}
+		stow.Look(text)
+		stow.Elaborate(text)
+		for j, fuel := range numbers {
+			room, list := numbers[(i+j)%len(numbers)], lists[(i+j)%len(lists)]
+			stow.Run(text, list, fuel, room)
+			stow.Exec(text, list, fuel, room)
+		}
+	}
+}
+
+// TestP2HangsOnArguments: whatever was asked ahead of it, or is asked beside it, the answer is the same.
+func TestP2HangsOnArguments(t *testing.T) {
+	m := newMaker(2)
+	var programs, answers []string
+	for range 200 {
+		program := strings.Join(m.program(), "\n")
+		programs = append(programs, program)
+		answers = append(answers, answer(program))
+	}
+	ask := func(step int) {
+		for i := range programs {
+			j := i * step % len(programs)
+			if a := answer(programs[j]); a != answers[j] {
+				t.Errorf("P2: Check(%q) = %s, and %s ahead of that", programs[j], a, answers[j])
+			}
+		}
+	}
+	var wait sync.WaitGroup
+	for _, step := range []int{1, 7, 101, 199} {
+		wait.Go(func() { ask(step) })
+	}
+	wait.Wait()
+}
+
+func answer(program string) string {
+	e, at := stow.Check(program)
+	return fmt.Sprint(e, at)
+}
+
+// TestP2ListsStay: neither a list that is handed in is written into, nor what stands behind it.
+func TestP2ListsStay(t *testing.T) {
+	program := "let n int\nlet m int\nblock\nin n\nin m\nin n\nout m\nend n"
+	all := []int64{1, 2, 3, 4, 5}
+	was := slices.Clone(all)
+	stow.Run(program, all[1:2], 100, 5)
+	stow.Exec(program, all[1:2], 100, 5)
+	if !slices.Equal(all, was) {
+		t.Errorf("P2: the list %v is %v behind the calls", was, all)
+	}
+}
