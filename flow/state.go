@@ -1,10 +1,7 @@
 // Package flow: what may be where, on whatever way a program comes to a line.
 package flow
 
-import (
-	"stow/api"
-	"stow/prog"
-)
+import "stow/prog"
 
 // May is how a thing may be: a bit for each.
 type May uint8
@@ -16,10 +13,10 @@ const (
 	Hollow                  // an opt's content was moved out or dropped
 )
 
-// State is what may be where at one moment: two entries a local, of which only a pair has use for the second. One that was never come to has no bits at all.
+// State is what may be where at one moment, slot by slot. One that was never come to has no bits at all.
 //
 // Each thing is followed by itself. Nothing is lost by that, as what a line makes of a thing hangs on one thing alone.
-type State [2 * api.MaxLocals]May
+type State [prog.Slots]May
 
 // start is the state ahead of block 0.
 func start() State {
@@ -30,21 +27,13 @@ func start() State {
 	return s
 }
 
-// slot is where a state has a place; a content is how its opt is.
-func slot(place prog.Place) int {
-	if place.Part == prog.HalfB {
-		return 2*place.Local + 1
-	}
-	return 2 * place.Local
-}
-
 // take makes what was in the places be gone from there.
 func (s *State) take(places ...prog.Place) {
 	for _, place := range places {
 		if place.Part == prog.Content {
-			s[slot(place)] = Hollow
+			s[place.Slot()] = Hollow
 		} else {
-			s[slot(place)] = Gone
+			s[place.Slot()] = Gone
 		}
 	}
 }
@@ -52,7 +41,7 @@ func (s *State) take(places ...prog.Place) {
 // put makes places be as may says.
 func (s *State) put(may May, places ...prog.Place) {
 	for _, place := range places {
-		s[slot(place)] = may
+		s[place.Slot()] = may
 	}
 }
 
@@ -78,7 +67,7 @@ func (s *State) pass(p *prog.Program, line prog.Line) {
 func (s *State) move(p *prog.Program, to, from prog.Place) {
 	written := There
 	if kind, _ := p.Kind(from); kind == prog.Opt {
-		written = s[slot(from)]
+		written = s[from.Slot()]
 	}
 	s.take(p.Halves(from)...)
 	s.put(written, p.Halves(to)...)
@@ -87,7 +76,7 @@ func (s *State) move(p *prog.Program, to, from prog.Place) {
 // lacks tells whether any of the places may be otherwise than fit says.
 func (s *State) lacks(fit May, places ...prog.Place) bool {
 	for _, place := range places {
-		if s[slot(place)]&^fit != 0 {
+		if s[place.Slot()]&^fit != 0 {
 			return true
 		}
 	}

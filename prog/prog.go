@@ -1,6 +1,8 @@
 // Package prog: programs as they are worked with, and how they are read from a text.
 package prog
 
+import "stow/api"
+
 // Type is what a local holds.
 type Type int
 
@@ -31,6 +33,17 @@ const (
 type Place struct {
 	Local int
 	Part  Part
+}
+
+// Slots is how many slots there are: two a local, of which only a pair has use for the second.
+const Slots = 2 * api.MaxLocals
+
+// Slot is where a table of all places has this one. An opt and its content have one slot, as what is to be known of the one tells of the other.
+func (place Place) Slot() int {
+	if place.Part == HalfB {
+		return 2*place.Local + 1
+	}
+	return 2 * place.Local
 }
 
 // Op is what a line does.

@@ -95,3 +95,21 @@ func TestKindsAndHalves(t *testing.T) {
 		}
 	}
 }
+
+// TestSlot: all places have slots of their own, but for an opt and its content.
+func TestSlot(t *testing.T) {
+	seen := map[int]Place{}
+	for local := range api.MaxLocals {
+		for _, part := range []Part{HalfA, HalfB} {
+			place := Place{local, part}
+			slot := place.Slot()
+			if other, twice := seen[slot]; twice || slot < 0 || slot >= Slots {
+				t.Errorf("the slot of %v is %d, as that of %v", place, slot, other)
+			}
+			seen[slot] = place
+		}
+		if (Place{local, Self}).Slot() != (Place{local, Content}).Slot() {
+			t.Errorf("opt %d and its content have slots of their own", local)
+		}
+	}
+}

@@ -41,7 +41,13 @@ func TestP1EndsAndDoesNotPanic(t *testing.T) {
 		stow.Elaborate(text)
 		for j, fuel := range numbers {
 			room, list := numbers[(i+j)%len(numbers)], lists[(i+j)%len(lists)]
-			stow.Run(text, list, fuel, room)
+			r, runE, runAt := stow.Run(text, list, fuel, room)
+			if e != api.OK && (r != (api.Result{}) || runE != e || runAt != at) {
+				t.Errorf("P1: Run(%.50q, .., %d, %d) = %+v, %d, %d, want what Check says: %d, %d", text, fuel, room, r, runE, runAt, e, at)
+			}
+			if e == api.OK && (runAt != 0 || (runE == api.OK) != (r != api.Result{})) {
+				t.Errorf("P1: Run(%.50q, .., %d, %d) = %+v, %d, %d", text, fuel, room, r, runE, runAt)
+			}
 			stow.Exec(text, list, fuel, room)
 		}
 	}
@@ -60,7 +66,7 @@ func TestP2HangsOnArguments(t *testing.T) {
 		for i := range programs {
 			j := i * step % len(programs)
 			if a := answer(programs[j]); a != answers[j] {
-				t.Errorf("P2: Check(%q) = %s, and %s ahead of that", programs[j], a, answers[j])
+				t.Errorf("P2: of %q the answers are %s, and %s ahead of that", programs[j], a, answers[j])
 			}
 		}
 	}
@@ -71,9 +77,11 @@ func TestP2HangsOnArguments(t *testing.T) {
 	wait.Wait()
 }
 
+// answer is all that the calls say of a program.
 func answer(program string) string {
 	e, at := stow.Check(program)
-	return fmt.Sprint(e, at)
+	r, runE, runAt := stow.Run(program, []int64{3, 2, 1}, 100, 5)
+	return fmt.Sprint(e, at, r, runE, runAt)
 }
 
 // TestP2ListsStay: neither a list that is handed in is written into, nor what stands behind it.
@@ -81,7 +89,9 @@ func TestP2ListsStay(t *testing.T) {
 	program := "let n int\nlet m int\nblock\nin n\nin m\nin n\nout m\nend n"
 	all := []int64{1, 2, 3, 4, 5}
 	was := slices.Clone(all)
-	stow.Run(program, all[1:2], 100, 5)
+	if r, _, _ := stow.Run(program, all[1:2], 100, 5); r.Trace != "o0" || r.Value != 0 {
+		t.Errorf("P2: %+v has what stands behind the list", r)
+	}
 	stow.Exec(program, all[1:2], 100, 5)
 	if !slices.Equal(all, was) {
 		t.Errorf("P2: the list %v is %v behind the calls", was, all)

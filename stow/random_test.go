@@ -1,6 +1,7 @@
 package stow_test
 
 import (
+	"math"
 	"math/rand"
 	"strconv"
 	"strings"
@@ -71,7 +72,7 @@ func (m *maker) prologue() []string {
 }
 
 func (m *maker) statement() string {
-	shape := m.one([]string{"set i 5", "add i i i", "div i i i", "in i", "out i", "new b i", "new b i", "load i b", "store b i", "move b b", "move b b", "move p p", "move o o", "none o", "some o b", "drop b", "drop p", "drop o"})
+	shape := m.one([]string{"set i 5", "set i -1", "set i 0", "add i i i", "sub i i i", "mul i i i", "div i i i", "in i", "out i", "new b i", "new b i", "load i b", "store b i", "move b b", "move b b", "move p p", "move o o", "none o", "some o b", "drop b", "drop p", "drop o"})
 	return m.filled(shape)
 }
 
@@ -92,6 +93,26 @@ func (m *maker) filled(shape string) string {
 		}
 	}
 	return strings.Join(words, " ")
+}
+
+// numbers makes inputs, odd ones among them.
+func (m *maker) numbers() []int64 {
+	list := make([]int64, m.Intn(6))
+	for i := range list {
+		list[i] = []int64{0, 1, -1, 2, 7, math.MinInt64, math.MaxInt64, 1 << 32, m.Int63()}[m.Intn(9)]
+	}
+	return list
+}
+
+// upTo makes a number from 0 to most, more often than not a small one.
+func (m *maker) upTo(most int) int {
+	switch m.Intn(3) {
+	case 0:
+		return m.Intn(6)
+	case 1:
+		return m.Intn(most + 1)
+	}
+	return most
 }
 
 // spoilt changes one thing about a program.

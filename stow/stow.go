@@ -4,24 +4,26 @@ package stow
 import (
 	"stow/api"
 	"stow/flow"
+	"stow/machine"
 	"stow/prog"
 )
 
 // Check tells whether a text is a program that uses nothing that may not be there (P3).
 func Check(program string) (api.Errno, int) {
-	p, e, at := prog.Read(program)
-	if e != api.OK {
-		return e, at
-	}
-	if at, found := flow.FirstFault(p); found {
-		return api.ErrUse, at
-	}
-	return api.OK, 0
+	_, e, at := checked(program)
+	return e, at
 }
 
 // Run runs a program (P4).
 func Run(program string, inputs []int64, fuel int, room int) (api.Result, api.Errno, int) {
-	return api.Result{}, api.OK, 0
+	p, e, at := checked(program)
+	if e != api.OK {
+		return api.Result{}, e, at
+	}
+	if !mayRun(inputs, fuel, api.MaxFuel, room) {
+		return api.Result{}, api.ErrConf, 0
+	}
+	return machine.Run(p, inputs, fuel, room), api.OK, 0
 }
 
 // Look tells whether a text is a raw program (P6).
@@ -34,3 +36,20 @@ func Exec(raw string, inputs []int64, fuel int, room int) (api.Result, api.Errno
 
 // Elaborate makes a raw program of a program (P8).
 func Elaborate(program string) (string, api.Errno, int) { return "", api.OK, 0 }
+
+// checked makes a program of a text, or tells the first error of it.
+func checked(program string) (*prog.Program, api.Errno, int) {
+	p, e, at := prog.Read(program)
+	if e != api.OK {
+		return nil, e, at
+	}
+	if at, found := flow.FirstFault(p); found {
+		return nil, api.ErrUse, at
+	}
+	return p, api.OK, 0
+}
+
+// mayRun tells whether a run may have these numbers.
+func mayRun(inputs []int64, fuel, mostFuel, room int) bool {
+	return len(inputs) <= api.MaxInputs && fuel >= 0 && fuel <= mostFuel && room >= 0 && room <= api.MaxRoom
+}
