@@ -14,7 +14,7 @@ const noBox = 0
 type owner struct {
 	yard
 	program *prog.Program
-	inputs  []int64 // those that are still to come
+	inputs  feed
 	ints    [api.MaxLocals]int64
 	boxes   [prog.Slots]int // an opt without a content has noBox, whether it is nothing, hollow or away
 }
@@ -72,7 +72,7 @@ func (m *owner) do(line prog.Line) {
 	case prog.Add, prog.Sub, prog.Mul:
 		m.calculate(line)
 	case prog.In:
-		m.ints[w[0].Local] = m.input()
+		m.ints[w[0].Local] = m.inputs.take()
 	case prog.Out:
 		m.putOut(m.number(w[0]))
 	case prog.Load:
@@ -90,32 +90,9 @@ func (m *owner) number(place prog.Place) int64 { return m.ints[place.Local] }
 
 func (m *owner) box(place prog.Place) int { return m.boxes[place.Slot()] }
 
-// input takes the next input.
-func (m *owner) input() int64 {
-	if len(m.inputs) == 0 {
-		return 0
-	}
-	first := m.inputs[0]
-	m.inputs = m.inputs[1:]
-	return first
-}
-
 func (m *owner) calculate(line prog.Line) {
 	w := line.Places
 	m.ints[w[0].Local] = calculated(line.Op, m.number(w[1]), m.number(w[2]))
-}
-
-// calculated is one and other, put together as op says. Go's own numbers come in again at the other end, and its least one by -1 is itself.
-func calculated(op prog.Op, one, other int64) int64 {
-	switch op {
-	case prog.Add:
-		return one + other
-	case prog.Sub:
-		return one - other
-	case prog.Mul:
-		return one * other
-	}
-	return one / other
 }
 
 // take empties places, and gives what was in them.
@@ -162,8 +139,5 @@ func (m *owner) next(line prog.Line) int {
 	case prog.Match:
 		other = m.box(line.Places[0]) != noBox
 	}
-	if other {
-		return line.Next[1]
-	}
-	return line.Next[0]
+	return way(line, other)
 }

@@ -65,10 +65,13 @@ const (
 	Move
 	None
 	Some
-	Drop
+	Drop // of programs that own boxes alone
+	Free // of raw programs alone, as Flag and Test
+	Flag
 	Goto // from here on terminators
 	If
 	Match
+	Test
 	End
 )
 
@@ -79,14 +82,15 @@ type Line struct {
 	At     int // the number of the line in the text
 	Op     Op
 	Places []Place
-	Number int64
+	Number int64 // that of a set, or the value of a flag
+	Flag   int   // the number of a flag
 	Next   []int // numbers of blocks
 }
 
 // Block is statements, and the terminator behind them.
 type Block []Line
 
-// Program is one whose form, names and types are right.
+// Program is one, raw or not, whose form, names and types are right.
 type Program struct {
 	Locals []Local
 	Blocks []Block

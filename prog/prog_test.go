@@ -27,6 +27,50 @@ func TestReadMakesAProgram(t *testing.T) {
 	}
 }
 
+func TestReadRawMakesAProgram(t *testing.T) {
+	p, e, at := ReadRaw("let n int\nlet o opt\nblock\nflag 49 1\nfree o.s\nflag 0 0\ntest 7 1 0\nblock\nend n")
+	want := &Program{
+		Locals: []Local{{"n", Int}, {"o", Opt}},
+		Blocks: []Block{
+			{
+				{At: 3, Op: Flag, Flag: 49, Number: 1},
+				{At: 4, Op: Free, Places: []Place{{1, Content}}},
+				{At: 5, Op: Flag},
+				{At: 6, Op: Test, Flag: 7, Next: []int{1, 0}},
+			},
+			{{At: 8, Op: End, Places: []Place{{0, Self}}}},
+		},
+	}
+	if e != api.OK || at != 0 || !reflect.DeepEqual(p, want) {
+		t.Errorf("ReadRaw = %+v, %d, %d, want %+v", p, e, at, want)
+	}
+}
+
+// TestDialects: a program and a raw one differ in four lines.
+func TestDialects(t *testing.T) {
+	own, raw := dialect{}, dialect{raw: true}
+	for op := Let; op <= End; op++ {
+		inOwn, inRaw := op != Free && op != Flag && op != Test, op != Drop
+		if own.has(op) != inOwn || raw.has(op) != inRaw {
+			t.Errorf("%q is in a program: %t, in a raw one: %t", shapes[op].word, own.has(op), raw.has(op))
+		}
+	}
+}
+
+// TestOrderOfBlocks: a dialect has no more blocks than it says. A raw program has too many lines ahead of that.
+func TestOrderOfBlocks(t *testing.T) {
+	o := order{dialect: dialect{raw: true, blocks: api.MaxRawBlocks}}
+	o.admits(Let)
+	for i := range api.MaxRawBlocks {
+		if !o.admits(Begin) || !o.admits(Test) {
+			t.Fatalf("block %d is not admitted", i)
+		}
+	}
+	if o.admits(Begin) {
+		t.Errorf("there are more than %d blocks", api.MaxRawBlocks)
+	}
+}
+
 func TestReadGivesNothingWithAnError(t *testing.T) {
 	for _, c := range []struct {
 		text string
@@ -44,8 +88,11 @@ func TestReadGivesNothingWithAnError(t *testing.T) {
 	}
 }
 
-// TestShapes: each op has a word of its own, no line has more words than are looked for, and places stand first: fits leans on that.
+// TestShapes: each op has a row, and a word of its own, no line has more words than are looked for, and places stand first: fits leans on that.
 func TestShapes(t *testing.T) {
+	if len(shapes) != int(End)+1 {
+		t.Errorf("there are %d rows", len(shapes))
+	}
 	for op, shape := range shapes {
 		if found, ok := opOf(shape.word); !ok || found != Op(op) {
 			t.Errorf("opOf(%q) = %d, %t, want %d", shape.word, found, ok, op)
@@ -68,6 +115,11 @@ func TestNumbers(t *testing.T) {
 	for _, word := range []string{"", "-", "-0", "--1", "-+1", "+1", "01", "1000000001", "9999999999999999999999"} {
 		if n, ok := numberOf(word); ok {
 			t.Errorf("numberOf(%q) = %d, want none", word, n)
+		}
+	}
+	for word, want := range map[string]int{"0": 0, "9": 9, "49": 49, "50": -1, "-0": -1, "-1": -1, "07": -1, "": -1, "4294967296": -1} {
+		if n, ok := flagOf(word); ok != (want >= 0) || ok && n != want {
+			t.Errorf("flagOf(%q) = %d, %t, want %d", word, n, ok, want)
 		}
 	}
 	if n, ok := blockOf("-1"); ok {

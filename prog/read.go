@@ -13,13 +13,40 @@ type sentence struct {
 	words []string // behind the op's own
 }
 
+// dialect is in what programs and raw programs differ.
+type dialect struct {
+	raw    bool
+	lines  int // the most that there may be
+	blocks int // the most that there may be
+}
+
+// has tells whether a dialect has such lines.
+func (d dialect) has(op Op) bool {
+	switch op {
+	case Drop:
+		return !d.raw
+	case Free, Flag, Test:
+		return d.raw
+	}
+	return true
+}
+
 // Read makes a program of a text, or tells the first error of its length, form, names and types, and the line of it.
-// Each kind of error is looked for in all lines ahead of the next kind, as the one named first is the answer.
 func Read(text string) (*Program, api.Errno, int) {
-	if strings.Count(text, "\n") >= api.MaxLines {
+	return dialect{lines: api.MaxLines, blocks: api.MaxBlocks}.read(text)
+}
+
+// ReadRaw does the same with the text of a raw program.
+func ReadRaw(text string) (*Program, api.Errno, int) {
+	return dialect{raw: true, lines: api.MaxRawLines, blocks: api.MaxRawBlocks}.read(text)
+}
+
+// read looks for each kind of error in all lines ahead of the next kind, as the one named first is the answer.
+func (d dialect) read(text string) (*Program, api.Errno, int) {
+	if strings.Count(text, "\n") >= d.lines {
 		return nil, api.ErrLong, 0
 	}
-	sentences, at, ok := split(strings.Split(text, "\n"))
+	sentences, at, ok := d.split(strings.Split(text, "\n"))
 	if !ok {
 		return nil, api.ErrForm, at
 	}
@@ -34,8 +61,8 @@ func Read(text string) (*Program, api.Errno, int) {
 }
 
 // split makes sentences of lines; where it is not ok it gives the line at which the form is broken.
-func split(lines []string) (sentences []sentence, at int, ok bool) {
-	var o order
+func (d dialect) split(lines []string) (sentences []sentence, at int, ok bool) {
+	o := order{dialect: d}
 	for i, line := range lines {
 		s, formed := sentenceOf(line)
 		if !formed || !o.admits(s.op) {
@@ -77,6 +104,7 @@ const (
 
 // order follows which lines have come, and tells which may come next.
 type order struct {
+	dialect dialect
 	section section
 	locals  int
 	blocks  int
@@ -85,6 +113,8 @@ type order struct {
 // admits tells whether a line may stand here, and goes on behind it.
 func (o *order) admits(op Op) bool {
 	switch {
+	case !o.dialect.has(op):
+		return false
 	case op == Let:
 		o.locals++
 		return o.section == amongLocals && o.locals <= api.MaxLocals
@@ -92,7 +122,7 @@ func (o *order) admits(op Op) bool {
 		fits := o.locals > 0 && o.section != inBlock
 		o.section = inBlock
 		o.blocks++
-		return fits && o.blocks <= api.MaxBlocks
+		return fits && o.blocks <= o.dialect.blocks
 	case o.section != inBlock:
 		return false
 	case op.isTerminator():
@@ -151,8 +181,10 @@ func (p *Program) lineOf(s sentence, blocks int) (line Line, ok bool) {
 	line.Op = s.op
 	for i, word := range s.words {
 		switch shapes[s.op].wants[i] {
-		case wantNumber:
+		case wantNumber, wantValue:
 			line.Number, _ = numberOf(word)
+		case wantFlag:
+			line.Flag, _ = flagOf(word)
 		case wantBlock:
 			n, _ := blockOf(word)
 			if n >= blocks {

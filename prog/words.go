@@ -17,6 +17,8 @@ const (
 	wantThing   = 'm' // what can be moved or dropped
 	wantNumber  = '#'
 	wantBlock   = 'b' // the number of a block
+	wantFlag    = 'f' // the number of a flag
+	wantValue   = 'v' // the value of a flag
 )
 
 // mostWords is how many words the longest line has.
@@ -40,9 +42,12 @@ var shapes = [...]struct{ word, wants string }{
 	None:  {"none", "o"},
 	Some:  {"some", "op"},
 	Drop:  {"drop", "m"},
+	Free:  {"free", "p"},
+	Flag:  {"flag", "fv"},
 	Goto:  {"goto", "b"},
 	If:    {"if", "ibb"},
 	Match: {"match", "obb"},
+	Test:  {"test", "fbb"},
 	End:   {"end", "i"},
 }
 
@@ -84,6 +89,10 @@ func isFormed(word string, want byte) bool {
 		_, ok = numberOf(word)
 	case wantBlock:
 		_, ok = blockOf(word)
+	case wantFlag:
+		_, ok = flagOf(word)
+	case wantValue:
+		ok = word == "0" || word == "1"
 	}
 	return ok
 }
@@ -131,6 +140,12 @@ func numberOf(word string) (int64, bool) {
 func blockOf(word string) (int, bool) {
 	n, ok := digitsOf(word)
 	return int(n), ok
+}
+
+// flagOf reads the number of a flag.
+func flagOf(word string) (int, bool) {
+	n, ok := digitsOf(word)
+	return int(n), ok && n < api.MaxFlags
 }
 
 // digitsOf reads a number without a sign. ParseInt alone takes more than may be: signs, and zeros ahead.

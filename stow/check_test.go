@@ -19,6 +19,13 @@ func wants(t *testing.T, promise, lines string, e api.Errno, at int) {
 	}
 }
 
+// wantsBoth fails, if Check or Look answers otherwise: what a program and a raw program have in common.
+func wantsBoth(t *testing.T, lines string, e api.Errno, at int) {
+	t.Helper()
+	wants(t, "P3", lines, e, at)
+	wantsRaw(t, "P6", lines, e, at)
+}
+
 // head has locals of all types (lines 0 to 7) and gives n and o; the next line is 11.
 const head = "let n int, let m int, let p box, let q box, let x pair, let y pair, let o opt, let l opt, block, in n, none o, "
 
@@ -47,7 +54,7 @@ func TestP3Long(t *testing.T) {
 	wants(t, "P3", strings.Repeat(", ", api.MaxLines), api.ErrLong, 0)
 }
 
-func TestP3WhereLinesStand(t *testing.T) {
+func TestP3P6WhereLinesStand(t *testing.T) {
 	for _, c := range []struct {
 		lines string
 		at    int
@@ -73,37 +80,37 @@ func TestP3WhereLinesStand(t *testing.T) {
 		{"let n int, block, in n, end n, ", 4},
 		{", let n int, block, in n, end n", 0},
 	} {
-		wants(t, "P3", c.lines, api.ErrForm, c.at)
+		wantsBoth(t, c.lines, api.ErrForm, c.at)
 	}
 }
 
-func TestP3HowMany(t *testing.T) {
+func TestP3P6HowMany(t *testing.T) {
 	names := []string{"a", "b", "c", "d", "e", "f", "g", "h", "i", "j", "k", "l", "m"}
 	locals := func(n int) string { return "let " + strings.Join(names[:n], " int, let ") + " int, " }
-	wants(t, "P3", locals(1)+"block, in a, end a", api.OK, 0)
-	wants(t, "P3", locals(api.MaxLocals)+"block, in l, end l", api.OK, 0)
-	wants(t, "P3", locals(api.MaxLocals+1)+"block, in l, end l", api.ErrForm, api.MaxLocals)
+	wantsBoth(t, locals(1)+"block, in a, end a", api.OK, 0)
+	wantsBoth(t, locals(api.MaxLocals)+"block, in l, end l", api.OK, 0)
+	wantsBoth(t, locals(api.MaxLocals+1)+"block, in l, end l", api.ErrForm, api.MaxLocals)
 	blocks := func(n int) string { return "let n int" + strings.Repeat(", block, goto 0", n) }
-	wants(t, "P3", blocks(api.MaxBlocks), api.OK, 0)
+	wantsBoth(t, blocks(api.MaxBlocks), api.OK, 0)
 	wants(t, "P3", blocks(api.MaxBlocks+1), api.ErrForm, 1+2*api.MaxBlocks)
-	wants(t, "P3", blocks(api.MaxBlocks-1)+", block, goto 19", api.OK, 0)
-	wants(t, "P3", blocks(api.MaxBlocks-1)+", block, goto 20", api.ErrName, 2*api.MaxBlocks)
+	wantsBoth(t, blocks(api.MaxBlocks-1)+", block, goto 19", api.OK, 0)
+	wantsBoth(t, blocks(api.MaxBlocks-1)+", block, goto 20", api.ErrName, 2*api.MaxBlocks)
 }
 
-func TestP3FormOfLets(t *testing.T) {
+func TestP3P6FormOfLets(t *testing.T) {
 	for _, l := range []string{
 		"let", "let n", "let n int int", "let n Int", "let n num", "let n ", "let  int", "let int", "let n  int", " let n int", "let n int ", "let\tn int", "let n int\r", "Let n int",
 		"let N int", "let é int", "let n1 int", "let n_ int", "let n.a int", "let abcde int", "let \x00 int", "let \xff int", "let ` int", "let { int",
 	} {
-		wants(t, "P3", l+", block, end n", api.ErrForm, 0)
-		wants(t, "P3", "let z opt, "+l+", block, end n", api.ErrForm, 1)
+		wantsBoth(t, l+", block, end n", api.ErrForm, 0)
+		wantsBoth(t, "let z opt, "+l+", block, end n", api.ErrForm, 1)
 	}
 	for _, name := range []string{"a", "z", "az", "abc", "zzzz", "let", "int", "box", "end"} {
-		wants(t, "P3", "let "+name+" int, block, in "+name+", end "+name, api.OK, 0)
+		wantsBoth(t, "let "+name+" int, block, in "+name+", end "+name, api.OK, 0)
 	}
 }
 
-func TestP3FormOfStatements(t *testing.T) {
+func TestP3P6FormOfStatements(t *testing.T) {
 	for _, l := range []string{
 		"", " ", "hello", "Set n 1", "set", "set n", "set n 1 1", "set n m", "set 1 1", "set n.a 1", "set x.a 1", " set n 1", "set n 1 ", "set  n 1", "set n\t1", "set n 1\r", "set abcde 1",
 		"add n n", "add n n n n", "add n n 1", "add n n x.a", "sub n n", "mul n n", "div n n", "mod n n n",
@@ -117,23 +124,25 @@ func TestP3FormOfStatements(t *testing.T) {
 		"if n", "if n 0", "if 0 0 0", "if n 0 0 0", "if x.a 0 0", "if n 0 -1", "if n -1 0", "if n 0 n",
 		"match o", "match o 0", "match o 0 0 0", "match o.s 0 0", "match 0 0 0", "match o 0 x", "match o 00 0",
 		"end", "end 0", "end n n", "end x.a", "end ", "end  n",
-		"free p", "flag 0 1", "test 0 0 0",
 	} {
+		wantsBoth(t, head+l+", end n", api.ErrForm, next)
+		wantsBoth(t, head+"in n, "+l, api.ErrForm, next+1)
+	}
+	for _, l := range []string{"free p", "free x.a", "free o.s", "flag 0 1", "test 0 0 0"} {
 		wants(t, "P3", head+l+", end n", api.ErrForm, next)
-		wants(t, "P3", head+"in n, "+l, api.ErrForm, next+1)
 	}
 }
 
-func TestP3FormOfNumbers(t *testing.T) {
+func TestP3P6FormOfNumbers(t *testing.T) {
 	for _, n := range []string{"0", "1", "9", "10", "-1", "-10", "999999999", "1000000000", "-1000000000"} {
-		wants(t, "P3", head+"set n "+n+", end n", api.OK, 0)
+		wantsBoth(t, head+"set n "+n+", end n", api.OK, 0)
 	}
 	for _, n := range []string{"-0", "00", "01", "-01", "+1", "+0", "--1", "-", "1-", "1_0", "0x1", "1e3", "1.0", "٣", "1000000001", "-1000000001", "10000000000", "9223372036854775807", "9223372036854775808", "-9223372036854775808", "18446744073709551617", strings.Repeat("1", 1000000)} {
-		wants(t, "P3", head+"set n "+n+", end n", api.ErrForm, next)
+		wantsBoth(t, head+"set n "+n+", end n", api.ErrForm, next)
 	}
 }
 
-func TestP3Names(t *testing.T) {
+func TestP3P6Names(t *testing.T) {
 	for _, c := range []struct {
 		lines string
 		at    int
@@ -151,31 +160,35 @@ func TestP3Names(t *testing.T) {
 		{"let n int, block, end nn", 2},
 		{"let nn int, block, end n", 2},
 	} {
-		wants(t, "P3", c.lines, api.ErrName, c.at)
+		wantsBoth(t, c.lines, api.ErrName, c.at)
 	}
-	for _, l := range []string{"set z 1", "add z n n", "sub n z n", "mul n n z", "div z z z", "in z", "out z", "new z n", "new z.a n", "new z.s n", "new p z", "load z p", "load n z", "load n z.b", "store z n", "store p z", "move z p", "move p z", "move z.s p", "none z", "some z p", "some o z", "drop z", "drop z.a"} {
-		wants(t, "P3", head+l+", end n", api.ErrName, next)
+	for _, l := range []string{"set z 1", "add z n n", "sub n z n", "mul n n z", "div z z z", "in z", "out z", "new z n", "new z.a n", "new z.s n", "new p z", "load z p", "load n z", "load n z.b", "store z n", "store p z", "move z p", "move p z", "move z.s p", "none z", "some z p", "some o z"} {
+		wantsBoth(t, head+l+", end n", api.ErrName, next)
 	}
+	wants(t, "P3", head+"drop z, end n", api.ErrName, next)
+	wants(t, "P3", head+"drop z.a, end n", api.ErrName, next)
 	for _, l := range []string{"if z 0 0", "match z 0 0", "end z"} {
-		wants(t, "P3", head+l, api.ErrName, next)
+		wantsBoth(t, head+l, api.ErrName, next)
 	}
-	wants(t, "P3", head+"end n, block, end z", api.ErrName, next+2) // that it cannot be come to is nothing to names
+	wantsBoth(t, head+"end n, block, end z", api.ErrName, next+2) // that it cannot be come to is nothing to names
 }
 
-func TestP3Types(t *testing.T) {
+func TestP3P6Types(t *testing.T) {
 	for _, l := range []string{
 		"set p 1", "set x 1", "set o 1", "add p n n", "add n x n", "sub n n o", "mul n p n", "div n n q", "in p", "out x",
 		"new n n", "new x n", "new o n", "new n.a n", "new n.s n", "new p.a n", "new p.s n", "new x.s n", "new o.a n", "new o.b n", "new p p", "new p o", "new x.a x",
 		"load p p", "load x p", "load n n", "load n x", "load n o", "load n x.s", "load n p.b", "store n n", "store x n", "store o n", "store o.a n", "store p p",
 		"move n m", "move n n", "move n p", "move p n", "move p x", "move x p", "move p o", "move o p", "move x o", "move o x", "move x.a x", "move x x.a", "move o o.s", "move o.s o", "move x.s p", "move p x.s", "move p o.b", "move p.a q", "move n.a p",
 		"none n", "none p", "none x", "some n p", "some p q", "some x p", "some o n", "some o x", "some o l", "some o x.s",
-		"drop n", "drop n.a", "drop p.a", "drop p.s", "drop x.s", "drop o.a", "drop o.b",
 	} {
+		wantsBoth(t, head+l+", end n", api.ErrType, next)
+		wantsBoth(t, head+"end n, block, "+l+", end n", api.ErrType, next+2)
+	}
+	for _, l := range []string{"drop n", "drop n.a", "drop p.a", "drop p.s", "drop x.s", "drop o.a", "drop o.b"} {
 		wants(t, "P3", head+l+", end n", api.ErrType, next)
-		wants(t, "P3", head+"end n, block, "+l+", end n", api.ErrType, next+2)
 	}
 	for _, l := range []string{"if p 0 0", "if x 0 0", "if o 0 0", "match n 0 0", "match p 0 0", "match x 0 0", "end p", "end x", "end o"} {
-		wants(t, "P3", head+l, api.ErrType, next)
+		wantsBoth(t, head+l, api.ErrType, next)
 	}
 }
 

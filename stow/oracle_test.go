@@ -9,36 +9,60 @@ import (
 	"stow/api"
 )
 
-// The oracle answers what Check must, by other means: forms by expressions, types by a list of what may be, and uses by going every way with one state a way.
+// The oracle answers what Check must, and Look, by other means: forms by expressions, types by a list of what may be, and uses by going every way with one state a way.
 
 const (
 	nameForm   = `[a-z]{1,4}`
 	placeForm  = nameForm + `(\.[abs])?`
 	numberForm = `(0|-?[1-9][0-9]{0,9})`
 	blockForm  = `(0|[1-9][0-9]{0,9})`
+	flagForm   = `([0-9]|[1-4][0-9])`
 )
 
-// formOf makes an expression of one in which N, P, # and B stand for the words of a line.
+// formOf makes an expression of one in which N, P, #, B and F stand for the words of a line.
 func formOf(words string) *regexp.Regexp {
-	fill := strings.NewReplacer("N", nameForm, "P", placeForm, "#", numberForm, "B", blockForm)
+	fill := strings.NewReplacer("N", nameForm, "P", placeForm, "#", numberForm, "B", blockForm, "F", flagForm)
 	return regexp.MustCompile(`\A(` + fill.Replace(words) + `)\z`)
 }
 
+// grammar is how programs, or raw programs, must be.
+type grammar struct {
+	lines, blocks  int // at most
+	statement, end *regexp.Regexp
+}
+
 var (
-	letForm       = formOf(`let N (int|box|pair|opt)`)
-	statementForm = formOf(`set N #|(add|sub|mul|div) N N N|(in|out|none) N|new P N|load N P|store P N|move P P|some N P|drop P`)
-	endForm       = formOf(`goto B|(if|match) N B B|end N`)
-	wholeForm     = regexp.MustCompile(`\AL{1,12}(BS*T){1,20}\z`)
-	beginForm     = regexp.MustCompile(`\A(L{0,12}|L{1,12}(BS*T){0,19}BS*T?)\z`)
-	typesForm     = regexp.MustCompile(`\A(set i|(add|sub|mul|div) i i i|(in|out|if|end) i|new b i|load i b|store b i|move (b b|p p|o o)|(none|match) o|some o b|drop [bpo]|goto)\z`)
+	letForm    = formOf(`let N (int|box|pair|opt)`)
+	ownGrammar = grammar{120, 20, formOf(bothStatements + `|drop P`), formOf(bothEnds)}
+	rawGrammar = grammar{4000, 2000, formOf(bothStatements + `|free P|flag F [01]`), formOf(bothEnds + `|test F B B`)}
+	typesForm  = regexp.MustCompile(`\A(set i|(add|sub|mul|div) i i i|(in|out|if|end) i|new b i|load i b|store b i|move (b b|p p|o o)|(none|match) o|some o b|drop [bpo]|free b|flag|test|goto)\z`)
 )
 
+const (
+	bothStatements = `set N #|(add|sub|mul|div) N N N|(in|out|none) N|new P N|load N P|store P N|move P P|some N P`
+	bothEnds       = `goto B|(if|match) N B B|end N`
+)
+
+// oracle is what Check must answer.
 func oracle(program string) (api.Errno, int) {
 	lines := strings.Split(program, "\n")
-	if len(lines) > api.MaxLines {
+	if e, at := ownGrammar.oracle(lines); e != api.OK {
+		return e, at
+	}
+	if at := oracleUse(lines); at >= 0 {
+		return api.ErrUse, at
+	}
+	return api.OK, 0
+}
+
+// oracleRaw is what Look must answer.
+func oracleRaw(raw string) (api.Errno, int) { return rawGrammar.oracle(strings.Split(raw, "\n")) }
+
+func (g grammar) oracle(lines []string) (api.Errno, int) {
+	if len(lines) > g.lines {
 		return api.ErrLong, 0
 	}
-	if at := oracleForm(lines); at >= 0 {
+	if at := g.oracleForm(lines); at >= 0 {
 		return api.ErrForm, at
 	}
 	if at := oracleName(lines); at >= 0 {
@@ -47,14 +71,11 @@ func oracle(program string) (api.Errno, int) {
 	if at := oracleType(lines); at >= 0 {
 		return api.ErrType, at
 	}
-	if at := oracleUse(lines); at >= 0 {
-		return api.ErrUse, at
-	}
 	return api.OK, 0
 }
 
 // letter is what a line is: L, B, S or T, or ? if it is none.
-func letter(line string) string {
+func (g grammar) letter(line string) string {
 	for _, word := range strings.Split(line, " ") {
 		if n, err := strconv.Atoi(word); err == nil && (n > api.MaxNumber || n < -api.MaxNumber) {
 			return "?"
@@ -65,19 +86,24 @@ func letter(line string) string {
 		return "L"
 	case line == "block":
 		return "B"
-	case statementForm.MatchString(line):
+	case g.statement.MatchString(line):
 		return "S"
-	case endForm.MatchString(line):
+	case g.end.MatchString(line):
 		return "T"
 	}
 	return "?"
 }
 
-func oracleForm(lines []string) int {
+var (
+	wholeForm = regexp.MustCompile(`\AL{1,12}(BS*T)+\z`)
+	beginForm = regexp.MustCompile(`\A(L{0,12}|L{1,12}(BS*T)*BS*T?)\z`)
+)
+
+func (g grammar) oracleForm(lines []string) int {
 	letters := ""
 	for i, line := range lines {
-		letters += letter(line)
-		if !beginForm.MatchString(letters) {
+		letters += g.letter(line)
+		if !beginForm.MatchString(letters) || strings.Count(letters, "B") > g.blocks {
 			return i
 		}
 	}
@@ -123,8 +149,14 @@ func oracleName(lines []string) int {
 				return i
 			}
 		}
+		switch op {
+		case "set", "flag":
+			numbers = nil
+		case "test":
+			numbers = numbers[1:]
+		}
 		for _, n := range numbers {
-			if v, _ := strconv.Atoi(n); op != "set" && v >= blocks {
+			if v, _ := strconv.Atoi(n); v >= blocks {
 				return i
 			}
 		}

@@ -16,9 +16,16 @@ type maker struct {
 	*rand.Rand
 	locals map[string][]string // by what is wanted: i, b (places for boxes), p, o
 	blocks int
+	raw    bool // whether it makes raw programs
 }
 
 func newMaker(seed int64) *maker { return &maker{Rand: rand.New(rand.NewSource(seed))} }
+
+func newRawMaker(seed int64) *maker {
+	m := newMaker(seed)
+	m.raw = true
+	return m
+}
 
 func (m *maker) one(of []string) string { return of[m.Intn(len(of))] }
 
@@ -72,13 +79,22 @@ func (m *maker) prologue() []string {
 }
 
 func (m *maker) statement() string {
-	shape := m.one([]string{"set i 5", "set i -1", "set i 0", "add i i i", "sub i i i", "mul i i i", "div i i i", "in i", "out i", "new b i", "new b i", "load i b", "store b i", "move b b", "move b b", "move p p", "move o o", "none o", "some o b", "drop b", "drop p", "drop o"})
-	return m.filled(shape)
+	shapes := []string{"set i 5", "set i -1", "set i 0", "add i i i", "sub i i i", "mul i i i", "div i i i", "in i", "out i", "new b i", "new b i", "load i b", "store b i", "move b b", "move b b", "move p p", "move o o", "none o", "some o b"}
+	if m.raw {
+		shapes = append(shapes, "free b", "flag 0 1", "flag 1 1", "flag 0 0", "flag 1 0", "flag 49 1")
+	} else {
+		shapes = append(shapes, "drop b", "drop p", "drop o")
+	}
+	return m.filled(m.one(shapes))
 }
 
 func (m *maker) terminator() string {
-	line := m.filled(m.one([]string{"goto", "if i", "if i", "match o", "match o", "end i"}))
-	count := map[byte]int{'g': 1, 'i': 2, 'm': 2, 'e': 0}[line[0]]
+	shapes := []string{"goto", "if i", "if i", "match o", "match o", "end i"}
+	if m.raw {
+		shapes = append(shapes, "test 0", "test 1", "test 49")
+	}
+	line := m.filled(m.one(shapes))
+	count := map[byte]int{'g': 1, 'i': 2, 'm': 2, 't': 2, 'e': 0}[line[0]]
 	for range count {
 		line += " " + strconv.Itoa(m.Intn(m.blocks))
 	}
@@ -128,7 +144,7 @@ func (m *maker) spoilt(lines []string) string {
 	case 2:
 		lines = append(lines[:i+1:i+1], lines[i:]...)
 	case 3, 4:
-		words[m.Intn(len(words))] = m.one([]string{"n", "p", "x", "o", "z", "x.a", "p.a", "o.s", "x.s", "o.b", "z.s", "n.c", "", "0", "1", "-1", "7", "00", "let", "end", "box", "int", "drop", "move", "free"})
+		words[m.Intn(len(words))] = m.one([]string{"n", "p", "x", "o", "z", "x.a", "p.a", "o.s", "x.s", "o.b", "z.s", "n.c", "", "0", "1", "-1", "7", "00", "let", "end", "box", "int", "drop", "move", "free", "flag", "test", "49", "50"})
 		lines[i] = strings.Join(words, " ")
 	case 5, 6:
 		words[len(words)-1] = m.one([]string{"n", "p", "x", "o", "x.a", "o.s", "p.a"})
@@ -142,23 +158,35 @@ func (m *maker) spoilt(lines []string) string {
 
 // TestP3ByChance holds Check against the oracle.
 func TestP3ByChance(t *testing.T) {
-	m := newMaker(1)
-	var count [api.ErrConf + 1]int
+	count := againstOracle(t, "P3: Check", newMaker(1), stow.Check, oracle)
+	if count[api.ErrUse] < 300 {
+		t.Errorf("only %d programs with a wrong use: chance tells too little", count[api.ErrUse])
+	}
+}
+
+// TestP6ByChance holds Look against the oracle.
+func TestP6ByChance(t *testing.T) {
+	againstOracle(t, "P6: Look", newRawMaker(4), stow.Look, oracleRaw)
+}
+
+// againstOracle holds a call against another one on programs right and wrong, and counts the answers.
+func againstOracle(t *testing.T, name string, m *maker, call, other func(string) (api.Errno, int)) (count [api.ErrConf + 1]int) {
 	for i := range 20000 {
 		lines := m.program()
 		program := strings.Join(lines, "\n")
 		if i%2 == 1 {
 			program = m.spoilt(lines)
 		}
-		e, at := stow.Check(program)
-		if wantE, wantAt := oracle(program); e != wantE || at != wantAt {
-			t.Fatalf("P3: Check(%q) = %d, %d, want %d, %d", program, e, at, wantE, wantAt)
+		e, at := call(program)
+		if wantE, wantAt := other(program); e != wantE || at != wantAt {
+			t.Fatalf("%s(%q) = %d, %d, want %d, %d", name, program, e, at, wantE, wantAt)
 		}
 		count[e]++
 	}
-	for _, e := range []api.Errno{api.OK, api.ErrForm, api.ErrName, api.ErrType, api.ErrUse} {
+	for _, e := range []api.Errno{api.OK, api.ErrForm, api.ErrName, api.ErrType} {
 		if count[e] < 300 {
-			t.Errorf("only %d programs with the answer %d: chance tells too little", count[e], e)
+			t.Errorf("%s: only %d programs with the answer %d: chance tells too little", name, count[e], e)
 		}
 	}
+	return count
 }

@@ -107,7 +107,8 @@ func (r *runner) move(to, from string) {
 	}
 }
 
-func (r *runner) calculate(op, into string, b, c *big.Int) {
+// bigCalculated is b and c, put together as op says.
+func bigCalculated(op string, b, c *big.Int) *big.Int {
 	n := new(big.Int)
 	switch op {
 	case "add":
@@ -119,7 +120,7 @@ func (r *runner) calculate(op, into string, b, c *big.Int) {
 	case "div":
 		n.Quo(b, c)
 	}
-	r.ints[into] = wrapped(n)
+	return wrapped(n)
 }
 
 // statement does a line that always goes on.
@@ -129,7 +130,7 @@ func (r *runner) statement(op string, w []string, number string) {
 		n, _ := strconv.ParseInt(number, 10, 64)
 		r.ints[w[0]] = big.NewInt(n)
 	case "add", "sub", "mul", "div":
-		r.calculate(op, w[0], r.ints[w[1]], r.ints[w[2]])
+		r.ints[w[0]] = bigCalculated(op, r.ints[w[1]], r.ints[w[2]])
 	case "out":
 		r.note("o", r.ints[w[0]])
 	case "load":
@@ -219,8 +220,16 @@ func oracleRun(program string, inputs []int64, fuel, room int) api.Result {
 	}
 }
 
-// oddTrace tells what of a trace cannot be: each box is made once, in turn, and used and freed only while it is live.
+// oddTrace tells what of a program's result cannot be.
 func oddTrace(r api.Result) string {
+	if r.Outcome == api.Ended && r.Live > 0 {
+		return "a box is left"
+	}
+	return oddUse(r)
+}
+
+// oddUse tells what of a trace cannot be: each box is made once, in turn, and used and freed only while it is live.
+func oddUse(r api.Result) string {
 	made := 0
 	live := map[int]bool{}
 	for _, word := range strings.Fields(r.Trace) {
@@ -245,9 +254,6 @@ func oddTrace(r api.Result) string {
 	}
 	if r.Live != len(live) {
 		return fmt.Sprint(len(live), " boxes are live by the trace, and ", r.Live, " by the result")
-	}
-	if r.Outcome == api.Ended && r.Live > 0 {
-		return "a box is left"
 	}
 	return ""
 }

@@ -27,11 +27,21 @@ func Run(program string, inputs []int64, fuel int, room int) (api.Result, api.Er
 }
 
 // Look tells whether a text is a raw program (P6).
-func Look(raw string) (api.Errno, int) { return api.OK, 0 }
+func Look(raw string) (api.Errno, int) {
+	_, e, at := prog.ReadRaw(raw)
+	return e, at
+}
 
 // Exec runs a raw program (P7).
 func Exec(raw string, inputs []int64, fuel int, room int) (api.Result, api.Errno, int) {
-	return api.Result{}, api.OK, 0
+	p, e, at := prog.ReadRaw(raw)
+	if e != api.OK {
+		return api.Result{}, e, at
+	}
+	if !mayRun(inputs, fuel, api.MaxRawFuel, room) {
+		return api.Result{}, api.ErrConf, 0
+	}
+	return machine.Exec(p, inputs, fuel, room), api.OK, 0
 }
 
 // Elaborate makes a raw program of a program (P8).
