@@ -9,10 +9,19 @@ type ways struct {
 	open    map[int]struct{} // the blocks that are still to be gone through
 }
 
-// FirstFault finds the first line that can be come to, and needs what may not be there.
-func FirstFault(p *prog.Program) (at int, found bool) {
+// waysOf goes all ways through a program.
+func waysOf(p *prog.Program) ways {
 	w := ways{p, make([]State, len(p.Blocks)), map[int]struct{}{}}
 	w.follow()
+	return w
+}
+
+// Entries gives what may be where ahead of each block.
+func Entries(p *prog.Program) []State { return waysOf(p).entry }
+
+// FirstFault finds the first line that can be come to, and needs what may not be there.
+func FirstFault(p *prog.Program) (at int, found bool) {
+	w := waysOf(p)
 	return w.firstFault()
 }
 
@@ -50,7 +59,7 @@ func (w *ways) lead(to int, s State) {
 func (w *ways) goThrough(b int) {
 	s := w.entry[b]
 	for _, line := range w.program.Blocks[b] {
-		s.pass(w.program, line)
+		s.Pass(w.program, line)
 		for i, next := range line.Next {
 			if line.Op == prog.Match {
 				s.put(matched(i), line.Places[0])
@@ -71,7 +80,7 @@ func matched(i int) May {
 // firstFault goes once more through the blocks that can be come to. Lines go up with the blocks, so that behind the first fault no other one is asked for.
 func (w *ways) firstFault() (at int, found bool) {
 	for b, s := range w.entry {
-		if s != (State{}) {
+		if s.Reached() {
 			w.open[b] = struct{}{}
 		}
 	}
@@ -91,7 +100,7 @@ func (w *ways) faultIn(b int) (at int, found bool) {
 		if s.faulty(w.program, line) {
 			return line.At, true
 		}
-		s.pass(w.program, line)
+		s.Pass(w.program, line)
 	}
 	return 0, false
 }

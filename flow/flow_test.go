@@ -1,6 +1,7 @@
 package flow
 
 import (
+	"slices"
 	"strings"
 	"testing"
 
@@ -18,10 +19,7 @@ func read(t *testing.T, lines string) *prog.Program {
 }
 
 func followed(t *testing.T, lines string) ways {
-	p := read(t, lines)
-	w := ways{p, make([]State, len(p.Blocks)), map[int]struct{}{}}
-	w.follow()
-	return w
+	return waysOf(read(t, lines))
 }
 
 // TestFollow: what may be where ahead of each block.
@@ -41,6 +39,55 @@ func TestFollow(t *testing.T) {
 	}
 	if len(w.open) != 0 {
 		t.Errorf("still open: %v", w.open)
+	}
+}
+
+// TestEntries: what is given of all blocks is what was followed, and tells which are come to.
+func TestEntries(t *testing.T) {
+	lines := "let n int, let p box, block, in n, if n 0 2, block, drop p, goto 2, block, new p n, goto 2"
+	entries := Entries(read(t, lines))
+	if !slices.Equal(entries, followed(t, lines).entry) {
+		t.Errorf("Entries = %v", entries)
+	}
+	for b, want := range []bool{true, false, true} {
+		if entries[b].Reached() != want {
+			t.Errorf("block %d is reached: %t", b, !want)
+		}
+	}
+}
+
+// TestTakeAndPass: behind the taking nothing is written yet; a thing that is moved to itself is not there in between.
+func TestTakeAndPass(t *testing.T) {
+	const p, a, b, o, l = 2, 4, 5, 6, 8
+	for _, c := range []struct {
+		line         string
+		ahead        [5]May // of p, x.a, x.b, o, l
+		taken, after [5]May
+	}{
+		{"new p n", [5]May{Gone, Gone, Gone, Gone, Gone}, [5]May{Gone, Gone, Gone, Gone, Gone}, [5]May{There, Gone, Gone, Gone, Gone}},
+		{"move p p", [5]May{There, Gone, Gone, Gone, Gone}, [5]May{Gone, Gone, Gone, Gone, Gone}, [5]May{There, Gone, Gone, Gone, Gone}},
+		{"move p x.b", [5]May{Gone | There, There, There, Gone, Gone}, [5]May{Gone | There, There, Gone, Gone, Gone}, [5]May{There, There, Gone, Gone, Gone}},
+		{"move x x", [5]May{Gone, There, There, Gone, Gone}, [5]May{Gone, Gone, Gone, Gone, Gone}, [5]May{Gone, There, There, Gone, Gone}},
+		{"move o l", [5]May{Gone, Gone, Gone, Hollow | There, Nothing | There}, [5]May{Gone, Gone, Gone, Hollow | There, Gone}, [5]May{Gone, Gone, Gone, Nothing | There, Gone}},
+		{"move o o", [5]May{Gone, Gone, Gone, Nothing | There, Gone}, [5]May{Gone, Gone, Gone, Gone, Gone}, [5]May{Gone, Gone, Gone, Nothing | There, Gone}},
+		{"some o o.s", [5]May{Gone, Gone, Gone, There, Gone}, [5]May{Gone, Gone, Gone, Hollow, Gone}, [5]May{Gone, Gone, Gone, There, Gone}},
+		{"some o p", [5]May{There, Gone, Gone, There, Gone}, [5]May{Gone, Gone, Gone, There, Gone}, [5]May{Gone, Gone, Gone, There, Gone}},
+		{"drop x", [5]May{There, There, Gone | There, There, Gone}, [5]May{There, There, Gone | There, There, Gone}, [5]May{There, Gone, Gone, There, Gone}},
+		{"drop o.s", [5]May{Gone, Gone, Gone, There, Gone}, [5]May{Gone, Gone, Gone, There, Gone}, [5]May{Gone, Gone, Gone, Hollow, Gone}},
+		{"none o", [5]May{Gone, Gone, Gone, There, Gone}, [5]May{Gone, Gone, Gone, There, Gone}, [5]May{Gone, Gone, Gone, Nothing, Gone}},
+	} {
+		program := read(t, "let n int, let p box, let x pair, let o opt, let l opt, block, "+c.line+", end n")
+		s := State{p: c.ahead[0], a: c.ahead[1], b: c.ahead[2], o: c.ahead[3], l: c.ahead[4]}
+		line := program.Blocks[0][0]
+		taken, after := s, s
+		taken.Take(program, line)
+		after.Pass(program, line)
+		if got := [5]May{taken[p], taken[a], taken[b], taken[o], taken[l]}; got != c.taken {
+			t.Errorf("behind the taking of %q: %v, want %v", c.line, got, c.taken)
+		}
+		if got := [5]May{after[p], after[a], after[b], after[o], after[l]}; got != c.after {
+			t.Errorf("behind %q: %v, want %v", c.line, got, c.after)
+		}
 	}
 }
 

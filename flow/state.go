@@ -18,6 +18,9 @@ const (
 // Each thing is followed by itself. Nothing is lost by that, as what a line makes of a thing hangs on one thing alone.
 type State [prog.Slots]May
 
+// Reached tells whether there is a way to where the state is.
+func (s *State) Reached() bool { return *s != State{} }
+
 // start is the state ahead of block 0.
 func start() State {
 	var s State
@@ -45,32 +48,39 @@ func (s *State) put(may May, places ...prog.Place) {
 	}
 }
 
-// pass makes of the state ahead of a line the one behind it, as if what the line needs were there.
-func (s *State) pass(p *prog.Program, line prog.Line) {
+// Pass makes of the state ahead of a line the one behind it, as if what the line needs were there.
+func (s *State) Pass(p *prog.Program, line prog.Line) {
+	was := *s
+	s.Take(p, line)
 	w := line.Places
 	switch line.Op {
-	case prog.Set, prog.Add, prog.Sub, prog.Mul, prog.Div, prog.In, prog.Load, prog.New:
+	case prog.Set, prog.Add, prog.Sub, prog.Mul, prog.Div, prog.In, prog.Load, prog.New, prog.Some:
 		s.put(There, w[0])
 	case prog.Move:
-		s.move(p, w[0], w[1])
+		s.put(was.moved(p, w[1]), p.Halves(w[0])...)
 	case prog.None:
 		s.put(Nothing, w[0])
-	case prog.Some:
-		s.take(w[1])
-		s.put(There, w[0])
 	case prog.Drop:
 		s.take(p.Halves(w[0])...)
 	}
 }
 
-// move takes ahead of writing: both may be the same.
-func (s *State) move(p *prog.Program, to, from prog.Place) {
-	written := There
-	if kind, _ := p.Kind(from); kind == prog.Opt {
-		written = s[from.Slot()]
+// Take goes but half of that way: what the line takes is gone, and nothing is written yet. What is then there where the line writes, is freed.
+func (s *State) Take(p *prog.Program, line prog.Line) {
+	switch line.Op {
+	case prog.Move:
+		s.take(p.Halves(line.Places[1])...)
+	case prog.Some:
+		s.take(line.Places[1])
 	}
-	s.take(p.Halves(from)...)
-	s.put(written, p.Halves(to)...)
+}
+
+// moved is how a thing may be behind its being moved: an opt is what it was.
+func (s *State) moved(p *prog.Program, from prog.Place) May {
+	if kind, _ := p.Kind(from); kind == prog.Opt {
+		return s[from.Slot()]
+	}
+	return There
 }
 
 // lacks tells whether any of the places may be otherwise than fit says.

@@ -115,3 +115,14 @@ func (p *Program) Halves(place Place) []Place {
 	}
 	return []Place{place}
 }
+
+// Boxes gives the places for boxes that a thing has: an int none, a box itself, a pair its halves, an opt its content.
+func (p *Program) Boxes(thing Place) []Place {
+	switch kind, _ := p.Kind(thing); kind {
+	case Int:
+		return nil
+	case Opt:
+		return []Place{{thing.Local, Content}}
+	}
+	return p.Halves(thing)
+}

@@ -148,6 +148,39 @@ func TestKindsAndHalves(t *testing.T) {
 	}
 }
 
+func TestBoxes(t *testing.T) {
+	p := &Program{Locals: []Local{{"n", Int}, {"p", Box}, {"x", Pair}, {"o", Opt}}}
+	for _, c := range []struct {
+		thing Place
+		want  []Place
+	}{
+		{Place{0, Self}, nil},
+		{Place{1, Self}, []Place{{1, Self}}},
+		{Place{2, Self}, []Place{{2, HalfA}, {2, HalfB}}},
+		{Place{2, HalfB}, []Place{{2, HalfB}}},
+		{Place{3, Self}, []Place{{3, Content}}},
+		{Place{3, Content}, []Place{{3, Content}}},
+	} {
+		if got := p.Boxes(c.thing); !slices.Equal(got, c.want) {
+			t.Errorf("Boxes of %v = %v, want %v", c.thing, got, c.want)
+		}
+	}
+}
+
+// TestText: a text that is read is written again as it was, with lines of all kinds.
+func TestText(t *testing.T) {
+	both := "let n int\nlet abcd box\nlet x pair\nlet o opt\nblock\nset n 0\nset n -1000000000\nadd n n n\nsub n n n\nmul n n n\ndiv n n n\nin n\nout n\nnew abcd n\nload n x.a\nstore x.b n\nmove o.s abcd\nmove x x\nmove o o\nnone o\nsome o x.a\n"
+	ends := "goto 1\nblock\nif n 0 2\nblock\nmatch o 2 0\nblock\nend n"
+	own := both + "drop x.b\ndrop x\ndrop o.s\ndrop o\n" + ends
+	if p, e, at := Read(own); e != api.OK || p.Text() != own {
+		t.Errorf("Read = %d, %d, then Text = %q, want %q", e, at, p.Text(), own)
+	}
+	raw := both + "free x.a\nfree o.s\nflag 0 1\nflag 49 0\n" + ends + "\nblock\ntest 49 3 1"
+	if p, e, at := ReadRaw(raw); e != api.OK || p.Text() != raw {
+		t.Errorf("ReadRaw = %d, %d, then Text = %q, want %q", e, at, p.Text(), raw)
+	}
+}
+
 // TestSlot: all places have slots of their own, but for an opt and its content.
 func TestSlot(t *testing.T) {
 	seen := map[int]Place{}

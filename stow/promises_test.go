@@ -58,7 +58,10 @@ func TestP1EndsAndDoesNotPanic(t *testing.T) {
 				}
 			}
 		}
-		stow.Elaborate(text)
+		e, at := stow.Check(text)
+		if raw, elaborateE, elaborateAt := stow.Elaborate(text); elaborateE != e || elaborateAt != at || (raw == "") != (e != api.OK) {
+			t.Errorf("P1: Elaborate(%.50q) = %.50q, %d, %d, Check answers %d, %d", text, raw, elaborateE, elaborateAt, e, at)
+		}
 	}
 }
 
@@ -93,7 +96,8 @@ func answer(program string) string {
 	r, runE, runAt := stow.Run(program, []int64{3, 2, 1}, 100, 5)
 	lookE, lookAt := stow.Look(program)
 	rawR, execE, execAt := stow.Exec(program, []int64{3, 2, 1}, 100, 5)
-	return fmt.Sprint(e, at, r, runE, runAt, lookE, lookAt, rawR, execE, execAt)
+	raw, rawE, rawAt := stow.Elaborate(program)
+	return fmt.Sprint(e, at, r, runE, runAt, lookE, lookAt, rawR, execE, execAt, raw, rawE, rawAt)
 }
 
 // TestP2ListsStay: neither a list that is handed in is written into, nor what stands behind it.

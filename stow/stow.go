@@ -3,6 +3,7 @@ package stow
 
 import (
 	"stow/api"
+	"stow/elaborate"
 	"stow/flow"
 	"stow/machine"
 	"stow/prog"
@@ -45,7 +46,13 @@ func Exec(raw string, inputs []int64, fuel int, room int) (api.Result, api.Errno
 }
 
 // Elaborate makes a raw program of a program (P8).
-func Elaborate(program string) (string, api.Errno, int) { return "", api.OK, 0 }
+func Elaborate(program string) (string, api.Errno, int) {
+	p, e, at := checked(program)
+	if e != api.OK {
+		return "", e, at
+	}
+	return elaborate.Raw(p).Text(), api.OK, 0
+}
 
 // checked makes a program of a text, or tells the first error of it.
 func checked(program string) (*prog.Program, api.Errno, int) {
